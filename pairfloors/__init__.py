@@ -1,0 +1,1 @@
+"""Pairfloors: floors that change by like pairs."""

@@ -1,0 +1,197 @@
+"""What several tests share: webs, slow answers straight from the document, and odd things for judges."""
+
+from itertools import combinations, permutations
+from random import Random
+from unittest import TestCase
+
+from pairfloors.webs import Web
+
+
+def nested(deep):
+    """A tuple nested so many times."""
+    thing = ()
+    for _ in range(deep):
+        thing = (thing,)
+    return thing
+
+
+# Of tuples, texts, numbers and None, up to 50 deep and with up to 10000 parts: a judge must bear each of them.
+ODD_THINGS = (
+    None, "", "a", "0", "dot", (), (None,), ("a",), ("ab", "cd"), ((),), ((), ()), (None, None, None), -1, 40, 10 ** 30,
+    -10 ** 30, (10 ** 30,), (-1, -1, -1), ((0, 1),), ((0, 1, 1), None), ((0, 1, "a"),), ((0, (1,), 1),), (((0, 1, 1),),),
+    nested(50), (0,) * 9999, ("a",) * 9999, ((0, 1, 1),) * 2499, ((0, 1),) * 3000, (None, "a", (1, (2, ("b", None)))),
+)
+
+
+class Case(TestCase):
+    """A test that also tells errors by their class and what they keep."""
+
+    def refuses(self, error, what, call, *args, **more):
+        with self.assertRaises(error) as held:
+            call(*args, **more)
+        self.assertIs(held.exception.__class__, error)
+        self.assertEqual(held.exception.what, what)
+        self.assertIs(held.exception.what.__class__, what.__class__)
+
+    def is_web(self, web, size, links):
+        self.assertIs(web.__class__, Web)
+        self.assertEqual((web.size, web.links), (size, tuple(links)))
+        self.assertIs(web.links.__class__, tuple)
+
+    def is_false(self, answer):
+        self.assertIs(answer, False)
+
+    def is_true(self, answer):
+        self.assertIs(answer, True)
+
+
+def made(size, pairs):
+    """The web with these links, whatever their order."""
+    return Web(size, tuple(sorted({(min(a, b), max(a, b)) for a, b in pairs})))
+
+
+def line(n):
+    return made(n, [(x, x + 1) for x in range(n - 1)])
+
+
+def ring(n):
+    return made(n, [(x, (x + 1) % n) for x in range(n)])
+
+
+def full(n):
+    return made(n, combinations(range(n), 2))
+
+
+def grid(rows, cols):
+    across = [(r * cols + c, r * cols + c + 1) for r in range(rows) for c in range(cols - 1)]
+    down = [(r * cols + c, r * cols + c + cols) for r in range(rows - 1) for c in range(cols)]
+    return made(rows * cols, across + down)
+
+
+def two_rows(left, right):
+    """The web in which each of the first left cells is linked to each of the right others."""
+    return made(left + right, [(a, left + b) for a in range(left) for b in range(right)])
+
+
+def side_by_side(*webs):
+    size, links = 0, []
+    for web in webs:
+        links += [(size + a, size + b) for a, b in web.links]
+        size += web.size
+    return made(size, links)
+
+
+def renamed(web, seed):
+    """The same web with its cells numbered in another order."""
+    order = list(range(web.size))
+    Random(seed).shuffle(order)
+    return made(web.size, [(order[a], order[b]) for a, b in web.links])
+
+
+def crowded(size=40, many=160):
+    """A web of many links."""
+    return Web(size, tuple(list(combinations(range(size), 2))[:many]))
+
+
+def some_webs():
+    """Webs of many sorts: all of up to four cells, and others, thin and dense, of one and of several parts."""
+    webs = [
+        made(size, pairs)
+        for size in (1, 2, 3, 4)
+        for many in range(size * (size - 1) // 2 + 1)
+        for pairs in combinations(combinations(range(size), 2), many)
+    ]
+    webs += [line(5), line(9), ring(5), ring(6), ring(7), full(5), grid(2, 3), grid(3, 3), two_rows(3, 3)]
+    webs += [side_by_side(ring(3), line(2), grid(2, 2)), side_by_side(full(4), line(1), ring(5), line(3))]
+    webs += [renamed(side_by_side(ring(4), ring(6), ring(3), line(1)), 1), renamed(grid(3, 4), 2)]
+    chance = Random(7)
+    for _ in range(60):
+        size = chance.randint(5, 9)
+        every = list(combinations(range(size), 2))
+        webs.append(made(size, chance.sample(every, chance.randint(2, len(every)))))
+    return webs
+
+
+def linked(web, x, y):
+    return (min(x, y), max(x, y)) in web.links
+
+
+def near(web, x):
+    return tuple(y for y in range(web.size) if linked(web, x, y))
+
+
+def slow_part(web, x):
+    part = {x}
+    while True:
+        grown = part | {z for y in part for z in range(web.size) if linked(web, y, z)}
+        if grown == part:
+            return tuple(sorted(part))
+        part = grown
+
+
+def slow_parts(web):
+    return tuple(sorted({slow_part(web, x) for x in range(web.size)}))
+
+
+def slow_sides(web):
+    """The sides of each cell by trying all ways to give them, part by part."""
+    found = {}
+    for part in slow_parts(web):
+        links = [(a, b) for a, b in web.links if a in part]
+        right = []
+        for bits in range(2 ** (len(part) - 1)):
+            sides = {x: (bits << 1) >> at & 1 for at, x in enumerate(part)}
+            if all(sides[a] != sides[b] for a, b in links):
+                right.append(sides)
+        assert len(right) <= 1
+        found.update(right[0] if right else {x: -1 for x in part})
+    return tuple(found[x] for x in range(web.size))
+
+
+def slow_mates(web, y, x, z):
+    return [m for m in range(web.size) if m != y and linked(web, m, x) and linked(web, m, z)]
+
+
+def slow_stout(web, x):
+    for y in slow_part(web, x):
+        around = near(web, y)
+        if len(around) < 2:
+            return False
+        pairs = [(a, b) for a, b in combinations(around, 2) if slow_mates(web, y, a, b)]
+        hanging = {around[0]}
+        for _ in around:
+            hanging |= {b for a, b in pairs + [(b, a) for a, b in pairs] if a in hanging}
+        if hanging != set(around):
+            return False
+    return True
+
+
+def slow_kind(web, x):
+    part = slow_part(web, x)
+    if len(part) == 1:
+        return "dot"
+    if slow_stout(web, x):
+        return "stout"
+    return "ring" if all(len(near(web, y)) == 2 for y in part) else "narrow"
+
+
+def slow_rows(web, x, y):
+    """All shortest rows of linked cells from x to y."""
+    rows = [(x,)]
+    for _ in range(web.size):
+        there = [row for row in rows if row[-1] == y]
+        if there:
+            return there
+        rows = [row + (z,) for row in rows for z in near(web, row[-1]) if z not in row]
+    return []
+
+
+def is_odd_round(web, x, cells):
+    turned = cells[1:] + cells[:1]
+    part = slow_part(web, x)
+    right = all(a in part and linked(web, a, b) for a, b in zip(cells, turned))
+    return right and len(cells) % 2 == 1 and len(cells) <= 2 * web.size
+
+
+def orders(things):
+    return list(permutations(things))

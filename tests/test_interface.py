@@ -1,0 +1,44 @@
+"""The interface: each name stands in its file, is defined there, and takes its arguments by their names."""
+
+import inspect
+from importlib import import_module
+from unittest import TestCase
+
+FUNCTIONS = {
+    "parts": ("parts(web)", "part_of(web, x)", "part_web(web, x)"),
+    "sides": ("sides(web)", "odd_round(web, x)", "odd_round_right(web, x, cells)"),
+    "squares": ("square_mate(web, y, x, z)",),
+    "kinds": ("is_stout(web, x)", "kind(web, x)"),
+    "ways": ("steps_apart(web, x)", "way(web, x, y)"),
+    "plans": ("checked_plan(plan)",),
+}
+CLASSES = {
+    "errors": {"Refused": ("__init__(self, what)",)},
+    "webs": {"Web": ("__init__(self, size, links)", "near(self, x)", "linked(self, x, y)")},
+}
+
+
+def told(name, thing):
+    return name + str(inspect.signature(thing))
+
+
+class Interface(TestCase):
+    def test_functions(self):
+        for file, rows in FUNCTIONS.items():
+            module = import_module("pairfloors." + file)
+            for row in rows:
+                name = row.split("(")[0]
+                thing = getattr(module, name)
+                self.assertTrue(inspect.isfunction(thing))
+                self.assertEqual((told(name, thing), thing.__module__), (row, "pairfloors." + file))
+
+    def test_classes(self):
+        for file, classes in CLASSES.items():
+            module = import_module("pairfloors." + file)
+            for name, rows in classes.items():
+                thing = getattr(module, name)
+                self.assertTrue(inspect.isclass(thing))
+                self.assertEqual(thing.__module__, "pairfloors." + file)
+                for row in rows:
+                    method = row.split("(")[0]
+                    self.assertEqual(told(method, vars(thing)[method]), row)
