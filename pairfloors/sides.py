@@ -18,13 +18,12 @@ def sides(web):
 
 def odd_round(web, x):
     """An odd round of the part of x, or None if the part is two-sided."""
-    start = part_of(web, x)[0]
-    link = level_link(web, steps_apart(web, start))
+    link = level_link(web, steps_apart(web, x))
     if link is None:
         return None
-    there = way(web, start, link[0])
-    back = way(web, start, link[1])
-    # Both ways are equally long, and the start stands in the round once: so the number of cells is odd.
+    there = way(web, x, link[0])
+    back = way(web, x, link[1])
+    # Both ways are equally long, and x stands in the round once: so the number of cells is odd.
     return there + back[:0:-1]
 
 
@@ -36,7 +35,7 @@ def odd_round_right(web, x, cells):
         return False
     part = part_of(web, x)
     # The cell at index -1 is the last one, which the first one must be linked to.
-    return all([is_below(y, web.size) and y in part and web.linked(cells[at - 1], y) for at, y in enumerate(cells)])
+    return all([y in part and web.linked(cells[at - 1], y) for at, y in enumerate(cells)])
 
 
 def level_link(web, apart):

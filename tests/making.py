@@ -22,6 +22,8 @@ ODD_THINGS = (
     nested(50), (0,) * 9999, ("a",) * 9999, ((0, 1, 1),) * 2499, ((0, 1),) * 3000, (None, "a", (1, (2, ("b", None)))),
 )
 
+NO_PAIRS = (None, 0, 7, "", "ab", (), (0,), (0, 1, 2), (None, 1), (0, "b"), ((0,), 1), ((0, 1),), ((0, 1), (0, 2), (0, 3)))
+
 
 class Case(TestCase):
     """A test that also tells errors by their class and what they keep."""
@@ -195,3 +197,52 @@ def is_odd_round(web, x, cells):
 
 def orders(things):
     return list(permutations(things))
+
+
+def all_tables(coats):
+    """All tables of so many coats that hang together, each as a tuple of pairs."""
+    pairs = list(combinations(range(coats), 2))
+    tables = [rows for many in range(len(pairs) + 1) for rows in combinations(pairs, many)]
+    return [rows for rows in tables if not loose_coats(coats, rows)]
+
+
+def loose_coats(coats, table):
+    """The coats to which one does not come from 0."""
+    reached = {0}
+    for _ in range(coats):
+        reached |= {b for a, b in table if a in reached} | {a for a, b in table if b in reached}
+    return sorted(set(range(coats)) - reached)
+
+
+def slow_let(world, floor, deed):
+    x, y, coat = deed
+    if not 0 <= x < y < world.web.size or not linked(world.web, x, y) or not 0 <= coat < world.coats:
+        return False
+    return floor[x] == floor[y] and ((floor[x], coat) in world.table or (coat, floor[x]) in world.table)
+
+
+def slow_deeds(world, floor):
+    """All deeds that are let, ascending, by trying all triples."""
+    size = world.web.size
+    tried = [(x, y, coat) for x in range(size) for y in range(size) for coat in range(world.coats)]
+    return tuple(deed for deed in tried if slow_let(world, floor, deed))
+
+
+def slow_after(floor, deed):
+    return tuple(deed[2] if x in deed[:2] else coat for x, coat in enumerate(floor))
+
+
+def random_floor(world, chance):
+    return tuple(chance.randrange(world.coats) for _ in range(world.web.size))
+
+
+def random_run(world, floor, many, chance):
+    """A run of up to so many deeds, chosen at random, with its trail."""
+    run, trail = [], [floor]
+    for _ in range(many):
+        let = slow_deeds(world, trail[-1])
+        if not let:
+            break
+        run.append(chance.choice(let))
+        trail.append(slow_after(trail[-1], run[-1]))
+    return tuple(run), tuple(trail)

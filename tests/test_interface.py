@@ -11,10 +11,22 @@ FUNCTIONS = {
     "kinds": ("is_stout(web, x)", "kind(web, x)"),
     "ways": ("steps_apart(web, x)", "way(web, x, y)"),
     "plans": ("checked_plan(plan)",),
+    "planwebs": ("web_of(plan)", "cell_at(plan, r, c)", "spot_of(plan, x)"),
+    "reshaped": ("with_link(web, a, b)", "without_link(web, a, b)", "without_cell(web, x)"),
+    "joined": ("with_corner(web, x, z)", "joined(one, two, doors)"),
+    "tables": ("checked_table(coats, table)",),
+    "floors": ("checked_floor(world, floor)", "stirs(world, floor, x)"),
+    "deeds": ("deeds(world, floor)", "after(world, floor, deed)"),
+    "runs": (
+        "replayed(world, floor, run)", "trail(world, floor, run)", "run_right(world, one, other, run)",
+        "turned_back(world, floor, run)",
+    ),
+    "chains": ("chain(world, p, r)", "widened(world, floor, run)"),
 }
 CLASSES = {
     "errors": {"Refused": ("__init__(self, what)",)},
     "webs": {"Web": ("__init__(self, size, links)", "near(self, x)", "linked(self, x, y)")},
+    "worlds": {"World": ("__init__(self, web, coats, *, table=None)",)},
 }
 
 

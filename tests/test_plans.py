@@ -1,4 +1,4 @@
-from making import Case
+from making import NO_PAIRS, Case
 
 from pairfloors.errors import BadCount, BadHole, BadSize, BadWall
 from pairfloors.plans import checked_plan
@@ -97,6 +97,13 @@ class Plans(Case):
         self.refuses(BadWall, 1, checked_plan, (2, 2, 0, (), (high, low)))
         self.refuses(BadWall, 1, checked_plan, (2, 2, 0, (), (high, low, ((0, 0), (5, 5)))))
         self.refuses(BadWall, 1, checked_plan, (2, 2, 0, (), (low, ((0, 0), (5, 5)), low)))
+
+    def test_holes_and_walls_that_are_no_pairs(self):
+        for bad in NO_PAIRS:
+            self.refuses(BadHole, 1, checked_plan, (2, 2, 0, ((0, 0), bad), ()))
+            self.refuses(BadWall, 0, checked_plan, (2, 2, 0, (), (bad,)))
+            self.refuses(BadWall, 1, checked_plan, (2, 2, 0, (), (((0, 0), (0, 1)), ((0, 0), bad))))
+            self.refuses(BadWall, 0, checked_plan, (2, 2, 0, (), ((bad, (0, 1)),)))
 
     def test_no_wall_at_a_hole(self):
         self.refuses(BadWall, 0, checked_plan, (2, 2, 0, ((0, 0),), (((0, 0), (0, 1)),)))

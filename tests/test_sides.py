@@ -108,7 +108,7 @@ class OddRoundsJudged(Case):
                 self.is_false(odd_round_right(web, 0, thing))
                 self.is_false(odd_round_right(web, 0, (0, 1, thing)))
                 self.is_false(odd_round_right(web, 0, (thing, 0, 1)))
-                self.is_false(odd_round_right(web, thing, (0, 1, 2)) and thing != 0)
+                self.is_false(odd_round_right(web, thing, (0, 1, 2)))
 
     def test_by_the_document(self):
         for web in (full(4), ring(3), side_by_side(ring(3), line(2)), ring(5)):

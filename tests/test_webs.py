@@ -1,4 +1,4 @@
-from making import Case, crowded, line, linked, near, side_by_side, some_webs
+from making import NO_PAIRS, Case, crowded, line, linked, near, side_by_side, some_webs
 
 from pairfloors.errors import BadCell, BadLink, BadSize, TooMany
 from pairfloors.webs import Web
@@ -42,6 +42,11 @@ class Made(Case):
         self.refuses(BadLink, 2, Web, 3, ((0, 1), (1, 2), (0, 2)))
         # The entry after a descent is compared with the link before it, not with the greatest one.
         self.refuses(BadLink, 1, Web, 3, ((1, 2), (0, 1), (0, 2)))
+
+    def test_links_that_are_no_pairs(self):
+        for bad in NO_PAIRS:
+            self.refuses(BadLink, 0, Web, 4, (bad,))
+            self.refuses(BadLink, 1, Web, 4, ((0, 1), bad, (0, 1)))
 
     def test_the_least_index_counts(self):
         self.refuses(BadLink, 1, Web, 4, ((0, 2), (0, 1), (3, 9)))

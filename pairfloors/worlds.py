@@ -1,0 +1,18 @@
+"""Worlds: webs with coats and the table of their changes."""
+
+from pairfloors.errors import BadCount
+from pairfloors.tables import checked_table
+
+LEAST_COATS = 2
+MOST_COATS = 6
+
+
+class World:
+    """A web with 2 to 6 coats and a table of the pairs of coats that change into one another. It never changes."""
+
+    def __init__(self, web, coats, *, table=None):
+        if not LEAST_COATS <= coats <= MOST_COATS:
+            raise BadCount(coats)
+        self.web = web
+        self.coats = coats
+        self.table = checked_table(coats, table)

@@ -1,0 +1,84 @@
+"""Nothing handed in is changed, and the same arguments are answered alike."""
+
+from copy import deepcopy
+
+from making import Case, full, grid, ring, side_by_side
+
+from pairfloors.chains import chain, widened
+from pairfloors.deeds import after, deeds
+from pairfloors.errors import Refused
+from pairfloors.floors import checked_floor, stirs
+from pairfloors.joined import joined, with_corner
+from pairfloors.kinds import is_stout, kind
+from pairfloors.parts import part_of, part_web, parts
+from pairfloors.plans import checked_plan
+from pairfloors.planwebs import cell_at, spot_of, web_of
+from pairfloors.reshaped import with_link, without_cell, without_link
+from pairfloors.runs import replayed, run_right, trail, turned_back
+from pairfloors.sides import odd_round, odd_round_right, sides
+from pairfloors.squares import square_mate
+from pairfloors.tables import checked_table
+from pairfloors.ways import steps_apart, way
+from pairfloors.webs import Web
+from pairfloors.worlds import World
+
+WEB = side_by_side(grid(2, 3), full(4), ring(5))
+WORLD = World(WEB, 3, table=((0, 1), (1, 2)))
+FLOOR = (0, 0, 1, 1, 2, 0) + (0, 1, 1, 2) + (0, 1, 2, 1, 2)
+RUN = ((0, 1, 1), (1, 2, 0), (7, 8, 2))
+PLAN = (3, 3, 3, ((1, 1),), (((0, 0), (0, 2)), ((0, 0), (1, 0))))
+CALLS = (
+    (parts, WEB), (part_of, WEB, 7), (part_web, WEB, 7), (part_web, WEB, 0), (sides, WEB), (odd_round, WEB, 12),
+    (odd_round_right, WEB, 6, (6, 7, 8)), (square_mate, WEB, 1, 0, 4), (is_stout, WEB, 0), (kind, WEB, 11),
+    (steps_apart, WEB, 3), (way, WEB, 0, 5), (checked_plan, PLAN), (web_of, PLAN), (cell_at, PLAN, 2, 2),
+    (spot_of, PLAN, 7), (with_link, WEB, 5, 6), (without_link, WEB, 1, 0), (without_cell, WEB, 4),
+    (with_corner, WEB, 0, 2), (joined, WEB, WEB, ((3, 1), (0, 0))), (checked_table, 3, ((0, 1), (1, 2))),
+    (checked_floor, WORLD, FLOOR), (stirs, WORLD, FLOOR, 0), (deeds, WORLD, FLOOR), (after, WORLD, FLOOR, (0, 1, 1)),
+    (replayed, WORLD, FLOOR, RUN), (trail, WORLD, FLOOR, RUN), (run_right, WORLD, FLOOR, FLOOR, RUN),
+    (turned_back, WORLD, FLOOR, RUN), (chain, WORLD, 0, 2), (widened, WORLD, FLOOR, ((0, 1, 2),)),
+    (with_link, WEB, 0, 1), (after, WORLD, FLOOR, (0, 2, 1)), (replayed, WORLD, FLOOR, RUN + RUN), (way, WEB, 0, 99),
+)
+
+
+def shown(thing):
+    """What can be seen of a thing, so that two of them can be compared."""
+    if isinstance(thing, Web):
+        return ("web", thing.size, thing.links, [thing.near(x) for x in range(thing.size)])
+    if isinstance(thing, World):
+        return ("world", shown(thing.web), thing.coats, thing.table)
+    return thing
+
+
+def answered(call, *args):
+    try:
+        return shown(call(*args))
+    except Refused as refused:
+        return (refused.__class__.__name__, refused.what)
+
+
+class Unchanged(Case):
+    def test_nothing_handed_in_is_changed(self):
+        for call, *args in CALLS:
+            before = deepcopy([shown(thing) for thing in args])
+            answered(call, *args)
+            self.assertEqual([shown(thing) for thing in args], before, call)
+
+    def test_the_same_is_answered_alike(self):
+        for call, *args in CALLS:
+            self.assertEqual(answered(call, *args), answered(call, *args), call)
+
+    def test_no_lists_are_returned(self):
+        for call, *args in CALLS:
+            self.no_lists(call(*args) if isinstance(answered(call, *args), list) else answered(call, *args))
+
+    def no_lists(self, thing):
+        self.assertNotIsInstance(thing, (list, set, dict))
+        if isinstance(thing, tuple) and "web" not in thing:
+            for inner in thing:
+                self.no_lists(inner)
+
+    def test_webs_stay_as_they_are_when_others_are_made_of_them(self):
+        near = [WEB.near(x) for x in range(WEB.size)]
+        for made in (with_link(WEB, 5, 6), without_cell(WEB, 0), with_corner(WEB, 0, 2), joined(WEB, WEB, ())):
+            self.assertIsNot(made, WEB)
+            self.assertEqual([WEB.near(x) for x in range(WEB.size)], near)
