@@ -2,7 +2,7 @@
 
 from pairfloors.errors import BadPair
 from pairfloors.forms import check_cell
-from pairfloors.webs import Web, web_within
+from pairfloors.webs import Web, rising, web_within
 
 
 def with_link(web, a, b):
@@ -29,8 +29,3 @@ def without_cell(web, x):
     check_cell(web, x)
     # Web itself refuses to have no cell.
     return web_within(web, [y for y in range(web.size) if y != x])
-
-
-def rising(a, b):
-    """The link between a and b, the lesser cell first."""
-    return (min(a, b), max(a, b))

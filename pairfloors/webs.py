@@ -54,3 +54,8 @@ def web_within(web, cells):
     number = {x: at for at, x in enumerate(cells)}
     links = [(number[a], number[b]) for a, b in web.links if a in number and b in number]
     return Web(len(cells), tuple(links))
+
+
+def rising(a, b):
+    """The link between a and b, the lesser cell first."""
+    return (min(a, b), max(a, b))

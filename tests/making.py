@@ -1,6 +1,6 @@
 """What several tests share: webs, slow answers straight from the document, and odd things for judges."""
 
-from itertools import combinations, permutations
+from itertools import combinations, permutations, product
 from random import Random
 from unittest import TestCase
 
@@ -246,3 +246,129 @@ def random_run(world, floor, many, chance):
         run.append(chance.choice(let))
         trail.append(slow_after(trail[-1], run[-1]))
     return tuple(run), tuple(trail)
+
+
+def all_floors(world):
+    return list(product(range(world.coats), repeat=world.web.size))
+
+
+def slow_classes(world):
+    """For each floor the least one that is the same, by following all deeds."""
+    least = {}
+    for floor in all_floors(world):
+        if floor not in least:
+            least[floor] = floor
+            reached = [floor]
+            for here in reached:
+                for deed in slow_deeds(world, here):
+                    there = slow_after(here, deed)
+                    if there not in least:
+                        least[there] = floor
+                        reached.append(there)
+    return least
+
+
+def slow_still(world, floor, part):
+    return all(floor[a] != floor[b] for a, b in world.web.links if a in part)
+
+
+def slow_surplus(world, floor, part):
+    shades = slow_sides(world.web)
+    return tuple(sum(1 - 2 * shades[x] for x in part if floor[x] == coat) for coat in range(world.coats))
+
+
+def slow_odd(world, floor, part):
+    return tuple(coat for coat in range(world.coats) if sum(floor[x] == coat for x in part) % 2)
+
+
+def slow_ring_row(web, part):
+    """The only row that the document lets, of all orders of the cells (of small rings)."""
+    rows = [row for row in permutations(part) if all(linked(web, a, b) for a, b in zip(row, row[1:] + row[:1]))]
+    return min(row for row in rows if row[0] == part[0])
+
+
+def slow_core(row, chance):
+    """The core of the row, its like neighbours struck out in any order."""
+    left = list(enumerate(row))
+    while True:
+        like = [at for at in range(len(left)) if len(left) > 1 and left[at - 1][1] == left[at][1]]
+        if not like:
+            break
+        at = chance.choice(like)
+        gone = (left[at - 1], left[at])
+        left = [held for held in left if held not in gone]
+    letters = tuple(coat for _, coat in left)
+    starts = [at for at, (i, _) in enumerate(left) if len(row) % 2 == 1 or i % 2 == 0]
+    return min([letters[at:] + letters[:at] for at in starts], default=())
+
+
+def slow_stepped(web, stones, step):
+    """The stones behind the step, or None if it is none there."""
+    stay, to = step
+    bare = [x for x, stone in enumerate(stones) if stone == -1]
+    if stay not in bare or to in bare or not 0 <= to < web.size or not linked(web, stay, to):
+        return None
+    left = sum(bare) - stay
+    return tuple(stones[to] if x == left else -1 if x == to else stone for x, stone in enumerate(stones))
+
+
+def slow_steps(web, stones):
+    every = [(stay, to) for stay in range(web.size) for to in range(web.size)]
+    return [step for step in every if slow_stepped(web, stones, step) is not None]
+
+
+def random_steps(web, stones, many, chance):
+    """So many steps, chosen at random, with all stones on the way."""
+    steps, way = [], [stones]
+    for _ in range(many):
+        steps.append(chance.choice(slow_steps(web, way[-1])))
+        way.append(slow_stepped(web, way[-1], steps[-1]))
+    return tuple(steps), way
+
+
+def random_stones(web, chance, limit=4):
+    bare = chance.choice(web.links)
+    return tuple(-1 if x in bare else chance.randrange(limit) for x in range(web.size))
+
+
+def collar(n):
+    """The web of two rounds of n cells, each cell linked to the other round's: the plan of n rows, closed, 2 columns."""
+    return made(2 * n, [(2 * x + k, (2 * x + 2 + k) % (2 * n)) for x in range(n) for k in (0, 1)]
+                + [(2 * x, 2 * x + 1) for x in range(n)])
+
+
+def corners(web):
+    """The pairs of cells with a common near cell."""
+    pairs = combinations(range(web.size), 2)
+    return [(x, z) for x, z in pairs if any(linked(web, x, y) and linked(web, y, z) for y in range(web.size))]
+
+
+def far_links(web):
+    """The pairs a, b that are not linked, but are the ends of a row of four linked cells."""
+    rows = []
+    for x, y in web.links + tuple((b, a) for a, b in web.links):
+        rows += [(a, b) for a in near(web, x) for b in near(web, y) if len({a, x, y, b}) == 4]
+    return sorted({(a, b) for a, b in rows if a < b and not linked(web, a, b)})
+
+
+def grown(web, size, more, chance):
+    """A stout web, grown from another one by corners and then by links, as point 4 of the document says."""
+    while web.size < size:
+        x, z = chance.choice(corners(web))
+        web = made(web.size + 1, web.links + ((x, web.size), (z, web.size)))
+    for _ in range(more):
+        if far_links(web):
+            web = made(web.size, web.links + (chance.choice(far_links(web)),))
+    return renamed(web, chance.random())
+
+
+def stout_webs():
+    """Connected stout webs of 4 to 12 cells and up to 24 links, one-sided and two-sided."""
+    webs = [grid(2, 2), grid(2, 3), full(4), full(5), two_rows(2, 3), two_rows(3, 3), collar(3), collar(4), collar(6)]
+    webs += [grid(3, 4), grid(2, 6), two_rows(2, 10), two_rows(4, 6)]
+    chance = Random(23)
+    for seed in (grid(2, 2), full(4)):
+        for size in range(5, 13):
+            least = len(seed.links) + 2 * (size - 4)
+            webs += [grown(seed, size, more, chance) for more in (0, min(3, 24 - least), 24 - least)]
+    return [web for web in webs if len(web.links) <= 24]

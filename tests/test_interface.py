@@ -22,6 +22,18 @@ FUNCTIONS = {
         "turned_back(world, floor, run)",
     ),
     "chains": ("chain(world, p, r)", "widened(world, floor, run)"),
+    "weighings": ("weigh(world, floor, weighing, modulus)",),
+    "keepers": ("is_keeper(world, weighing, modulus)", "coat_keeper(world, x, coat)"),
+    "keeperparts": ("keeper_parts(world, weighing, modulus)", "keeper_of(world, base, bends, modulus)"),
+    "surplus": ("surplus(world, floor, x)", "odd_coats(world, floor, x)"),
+    "cores": ("ring_row(web, x)", "core_of(row)"),
+    "answers": ("answer(world, floor)", "same(world, one, two)"),
+    "walkers": (
+        "walker(web, stones)", "stepped(web, stones, step)", "walked(web, stones, steps)", "steps_back(web, stones, steps)",
+        "is_smooth(web, stones, step)", "steps_right(web, stones, steps, goal)",
+    ),
+    "turns": ("turn(web, stones, stay, u, v)",),
+    "exchanges": ("arranged(web, stones, goal)", "exchanged(web, stones, u, v)"),
 }
 CLASSES = {
     "errors": {"Refused": ("__init__(self, what)",)},

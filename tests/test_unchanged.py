@@ -4,11 +4,16 @@ from copy import deepcopy
 
 from making import Case, full, grid, ring, side_by_side
 
+from pairfloors.answers import answer, same
 from pairfloors.chains import chain, widened
+from pairfloors.cores import core_of, ring_row
 from pairfloors.deeds import after, deeds
 from pairfloors.errors import Refused
+from pairfloors.exchanges import arranged, exchanged
 from pairfloors.floors import checked_floor, stirs
 from pairfloors.joined import joined, with_corner
+from pairfloors.keeperparts import keeper_of, keeper_parts
+from pairfloors.keepers import coat_keeper, is_keeper
 from pairfloors.kinds import is_stout, kind
 from pairfloors.parts import part_of, part_web, parts
 from pairfloors.plans import checked_plan
@@ -17,15 +22,22 @@ from pairfloors.reshaped import with_link, without_cell, without_link
 from pairfloors.runs import replayed, run_right, trail, turned_back
 from pairfloors.sides import odd_round, odd_round_right, sides
 from pairfloors.squares import square_mate
+from pairfloors.surplus import odd_coats, surplus
 from pairfloors.tables import checked_table
+from pairfloors.turns import turn
+from pairfloors.walkers import is_smooth, stepped, steps_back, steps_right, walked, walker
 from pairfloors.ways import steps_apart, way
 from pairfloors.webs import Web
+from pairfloors.weighings import weigh
 from pairfloors.worlds import World
 
 WEB = side_by_side(grid(2, 3), full(4), ring(5))
 WORLD = World(WEB, 3, table=((0, 1), (1, 2)))
 FLOOR = (0, 0, 1, 1, 2, 0) + (0, 1, 1, 2) + (0, 1, 2, 1, 2)
 RUN = ((0, 1, 1), (1, 2, 0), (7, 8, 2))
+KEEPER = tuple((3, 2, 3) if x in (6, 7, 8, 9) else (x, x, x) for x in range(15))
+SMALL, STONES, GOAL = grid(2, 3), (-1, -1, 2, 3, 4, 5), (4, -1, 2, 3, -1, 5)
+STEPS = ((1, 2), (1, 4), (1, 0))
 PLAN = (3, 3, 3, ((1, 1),), (((0, 0), (0, 2)), ((0, 0), (1, 0))))
 CALLS = (
     (parts, WEB), (part_of, WEB, 7), (part_web, WEB, 7), (part_web, WEB, 0), (sides, WEB), (odd_round, WEB, 12),
@@ -36,6 +48,12 @@ CALLS = (
     (checked_floor, WORLD, FLOOR), (stirs, WORLD, FLOOR, 0), (deeds, WORLD, FLOOR), (after, WORLD, FLOOR, (0, 1, 1)),
     (replayed, WORLD, FLOOR, RUN), (trail, WORLD, FLOOR, RUN), (run_right, WORLD, FLOOR, FLOOR, RUN),
     (turned_back, WORLD, FLOOR, RUN), (chain, WORLD, 0, 2), (widened, WORLD, FLOOR, ((0, 1, 2),)),
+    (weigh, WORLD, FLOOR, KEEPER, 2), (is_keeper, WORLD, KEEPER, 2), (coat_keeper, WORLD, 7, 1), (surplus, WORLD, FLOOR, 4),
+    (keeper_parts, WORLD, KEEPER, 2), (keeper_of, WORLD, tuple(range(15)), ((0, 1, 7), (0, 1, 1), (0, 0, 1)), 2),
+    (odd_coats, WORLD, FLOOR, 7), (ring_row, WEB, 12), (core_of, FLOOR), (answer, WORLD, FLOOR), (same, WORLD, FLOOR, FLOOR),
+    (walker, SMALL, STONES), (stepped, SMALL, STONES, (1, 4)), (walked, SMALL, STONES, STEPS), (turn, SMALL, STONES, 1, 2, 4),
+    (steps_back, SMALL, STONES, STEPS), (is_smooth, SMALL, STONES, (1, 4)), (steps_right, SMALL, STONES, STEPS, GOAL),
+    (arranged, SMALL, STONES, GOAL), (exchanged, SMALL, STONES, 2, 4), (arranged, SMALL, STONES, STONES[::-1]),
     (with_link, WEB, 0, 1), (after, WORLD, FLOOR, (0, 2, 1)), (replayed, WORLD, FLOOR, RUN + RUN), (way, WEB, 0, 99),
 )
 
