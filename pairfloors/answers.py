@@ -2,7 +2,7 @@
 
 from pairfloors.cores import core_of, ring_row
 from pairfloors.errors import Narrow
-from pairfloors.floors import checked_floor, stirs
+from pairfloors.floors import checked_floor, stirs, worn
 from pairfloors.kinds import kind
 from pairfloors.parts import parts
 from pairfloors.sides import sides
@@ -32,7 +32,7 @@ def entry(world, floor, part):
     """The entry of one part in the answer of the floor."""
     x = part[0]
     if not stirs(world, floor, x):
-        return ("still", tuple([floor[y] for y in part]))
+        return ("still", worn(floor, part))
     name = kind(world.web, x)
     if name == "narrow":
         raise Narrow(x)
@@ -45,4 +45,4 @@ def entry(world, floor, part):
 
 def core_along(web, floor, x):
     """The core of the coats along the ring row of the part of x."""
-    return core_of(tuple([floor[y] for y in ring_row(web, x)]))
+    return core_of(worn(floor, ring_row(web, x)))

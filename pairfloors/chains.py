@@ -19,7 +19,13 @@ def chain(world, p, r):
 def widened(world, floor, run):
     """The run of the world that does what the run does where the table has all pairs."""
     worn = coats_before(World(world.web, world.coats), floor, run)
+    chains = all_chains(world)
     wider = []
     for (x, y, coat), old in zip(run, worn):
-        wider.extend([(x, y, c) for c in chain(world, old, coat)[1:]])
+        wider.extend([(x, y, c) for c in chains[old, coat][1:]])
     return tuple(wider)
+
+
+def all_chains(world):
+    """The chains of all coats (p, r): runs of many deeds would ask for each of them again and again."""
+    return {(p, r): chain(world, p, r) for p in range(world.coats) for r in range(world.coats)}

@@ -27,3 +27,8 @@ def stirs(world, floor, x):
     checked_floor(world, floor)
     part = part_of(world.web, x)
     return any([floor[a] == floor[b] for a, b in world.web.links if a in part])
+
+
+def worn(floor, cells):
+    """The coats of the cells, in their order."""
+    return tuple([floor[x] for x in cells])

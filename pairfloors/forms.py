@@ -1,6 +1,6 @@
-"""Forms of arguments, which several files ask for: numbers, pairs, cells, rising rows."""
+"""Forms of arguments, which several files ask for: numbers, pairs, cells, counts, rising rows."""
 
-from pairfloors.errors import BadCell
+from pairfloors.errors import BadCell, BadCount
 
 
 def is_number(value):
@@ -37,3 +37,9 @@ def check_cell(web, x):
     """Refuse x unless it is a cell of the web."""
     if not is_below(x, web.size):
         raise BadCell(x)
+
+
+def check_count(number, least, most):
+    """Refuse a number that is not from least to most."""
+    if not least <= number <= most:
+        raise BadCount(number)

@@ -1,7 +1,7 @@
 """Plans: rows and columns of places, perhaps closed, with holes and walls."""
 
 from pairfloors.errors import BadCount, BadHole, BadSize, BadWall
-from pairfloors.forms import are_numbers, first_fault
+from pairfloors.forms import are_numbers, check_count, first_fault
 from pairfloors.webs import MOST_CELLS
 
 MOST_ROWS = 8
@@ -26,12 +26,9 @@ def checked_plan(plan):
 
 def check_counts(rows, cols, around):
     """Refuse rows, columns and a closing that no plan may have."""
-    if not 1 <= rows <= MOST_ROWS:
-        raise BadCount(rows)
-    if not 1 <= cols <= MOST_ROWS:
-        raise BadCount(cols)
-    if not 0 <= around <= 3:
-        raise BadCount(around)
+    check_count(rows, 1, MOST_ROWS)
+    check_count(cols, 1, MOST_ROWS)
+    check_count(around, 0, 3)
     if closes_rows(around) and cols < LEAST_CLOSED:
         raise BadCount(around)
     if closes_columns(around) and rows < LEAST_CLOSED:

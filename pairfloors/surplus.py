@@ -1,7 +1,7 @@
 """What no deed changes: the surplus and the odd coats of a floor on a part."""
 
 from pairfloors.errors import OneSided
-from pairfloors.floors import checked_floor
+from pairfloors.floors import checked_floor, worn
 from pairfloors.parts import part_of
 from pairfloors.sides import sides
 
@@ -13,13 +13,13 @@ def surplus(world, floor, x):
     shades = sides(world.web)
     if shades[x] < 0:
         raise OneSided(part[0])
-    light = [floor[y] for y in part if shades[y] == 0]
-    dark = [floor[y] for y in part if shades[y] == 1]
+    light = worn(floor, [y for y in part if shades[y] == 0])
+    dark = worn(floor, [y for y in part if shades[y] == 1])
     return tuple([light.count(coat) - dark.count(coat) for coat in range(world.coats)])
 
 
 def odd_coats(world, floor, x):
     """The coats that an odd number of cells of the part of x wear, ascending."""
     checked_floor(world, floor)
-    worn = [floor[y] for y in part_of(world.web, x)]
-    return tuple([coat for coat in range(world.coats) if worn.count(coat) & 1 == 1])
+    coats = worn(floor, part_of(world.web, x))
+    return tuple([coat for coat in range(world.coats) if coats.count(coat) & 1 == 1])

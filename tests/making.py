@@ -1,5 +1,6 @@
 """What several tests share: webs, slow answers straight from the document, and odd things for judges."""
 
+from functools import cache
 from itertools import combinations, permutations, product
 from random import Random
 from unittest import TestCase
@@ -131,22 +132,22 @@ def slow_part(web, x):
         part = grown
 
 
+@cache
 def slow_parts(web):
     return tuple(sorted({slow_part(web, x) for x in range(web.size)}))
 
 
+@cache
 def slow_sides(web):
     """The sides of each cell by trying all ways to give them, part by part."""
     found = {}
     for part in slow_parts(web):
-        links = [(a, b) for a, b in web.links if a in part]
-        right = []
-        for bits in range(2 ** (len(part) - 1)):
-            sides = {x: (bits << 1) >> at & 1 for at, x in enumerate(part)}
-            if all(sides[a] != sides[b] for a, b in links):
-                right.append(sides)
+        links = [(part.index(a), part.index(b)) for a, b in web.links if a in part]
+        # Each bit is the side of a cell; the least cell is light.
+        tried = range(0, 2 ** len(part), 2)
+        right = [bits for bits in tried if all((bits >> a ^ bits >> b) & 1 for a, b in links)]
         assert len(right) <= 1
-        found.update(right[0] if right else {x: -1 for x in part})
+        found.update({x: right[0] >> at & 1 if right else -1 for at, x in enumerate(part)})
     return tuple(found[x] for x in range(web.size))
 
 
@@ -228,6 +229,12 @@ def slow_deeds(world, floor):
     return tuple(deed for deed in tried if slow_let(world, floor, deed))
 
 
+def let_deeds(world, floor):
+    """All deeds that are let, by trying the links alone."""
+    tried = [(x, y, coat) for x, y in world.web.links if floor[x] == floor[y] for coat in range(world.coats)]
+    return [deed for deed in tried if slow_let(world, floor, deed)]
+
+
 def slow_after(floor, deed):
     return tuple(deed[2] if x in deed[:2] else coat for x, coat in enumerate(floor))
 
@@ -240,7 +247,7 @@ def random_run(world, floor, many, chance):
     """A run of up to so many deeds, chosen at random, with its trail."""
     run, trail = [], [floor]
     for _ in range(many):
-        let = slow_deeds(world, trail[-1])
+        let = let_deeds(world, trail[-1])
         if not let:
             break
         run.append(chance.choice(let))
@@ -260,7 +267,7 @@ def slow_classes(world):
             least[floor] = floor
             reached = [floor]
             for here in reached:
-                for deed in slow_deeds(world, here):
+                for deed in let_deeds(world, here):
                     there = slow_after(here, deed)
                     if there not in least:
                         least[there] = floor

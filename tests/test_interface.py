@@ -34,6 +34,14 @@ FUNCTIONS = {
     ),
     "turns": ("turn(web, stones, stay, u, v)",),
     "exchanges": ("arranged(web, stones, goal)", "exchanged(web, stones, u, v)"),
+    "walkdeeds": ("run_of_steps(world, floor, x, y, steps)",),
+    "normals": ("normal(world, floor)",),
+    "leads": ("lead_home(world, floor)", "lead(world, one, two)"),
+    "papers": ("apart(world, one, two)", "apart_right(world, one, two, paper)"),
+    "tallies": ("odd_count(n, coats)",),
+    "surplusrows": ("surplus_count(light, dark, coats)",),
+    "lots": ("side_lot(light, dark, surplus)", "odd_lot(n, coats, many)", "lot_size(web, coats, key)"),
+    "lotorder": ("lot_floor(web, coats, key, n)", "lot_number(web, coats, floor)"),
 }
 CLASSES = {
     "errors": {"Refused": ("__init__(self, what)",)},

@@ -18,4 +18,4 @@ class Readme(TestCase):
                     shown += 1
                 else:
                     exec(row, held)
-        self.assertEqual(shown, 13)
+        self.assertEqual(shown, 20)

@@ -15,6 +15,11 @@ from pairfloors.joined import joined, with_corner
 from pairfloors.keeperparts import keeper_of, keeper_parts
 from pairfloors.keepers import coat_keeper, is_keeper
 from pairfloors.kinds import is_stout, kind
+from pairfloors.leads import lead, lead_home
+from pairfloors.lotorder import lot_floor, lot_number
+from pairfloors.lots import lot_size, odd_lot, side_lot
+from pairfloors.normals import normal
+from pairfloors.papers import apart, apart_right
 from pairfloors.parts import part_of, part_web, parts
 from pairfloors.plans import checked_plan
 from pairfloors.planwebs import cell_at, spot_of, web_of
@@ -23,9 +28,12 @@ from pairfloors.runs import replayed, run_right, trail, turned_back
 from pairfloors.sides import odd_round, odd_round_right, sides
 from pairfloors.squares import square_mate
 from pairfloors.surplus import odd_coats, surplus
+from pairfloors.surplusrows import surplus_count
 from pairfloors.tables import checked_table
+from pairfloors.tallies import odd_count
 from pairfloors.turns import turn
 from pairfloors.walkers import is_smooth, stepped, steps_back, steps_right, walked, walker
+from pairfloors.walkdeeds import run_of_steps
 from pairfloors.ways import steps_apart, way
 from pairfloors.webs import Web
 from pairfloors.weighings import weigh
@@ -34,6 +42,7 @@ from pairfloors.worlds import World
 WEB = side_by_side(grid(2, 3), full(4), ring(5))
 WORLD = World(WEB, 3, table=((0, 1), (1, 2)))
 FLOOR = (0, 0, 1, 1, 2, 0) + (0, 1, 1, 2) + (0, 1, 2, 1, 2)
+LESS = FLOOR[:6] + (0, 0, 0, 0) + FLOOR[10:]
 RUN = ((0, 1, 1), (1, 2, 0), (7, 8, 2))
 KEEPER = tuple((3, 2, 3) if x in (6, 7, 8, 9) else (x, x, x) for x in range(15))
 SMALL, STONES, GOAL = grid(2, 3), (-1, -1, 2, 3, 4, 5), (4, -1, 2, 3, -1, 5)
@@ -54,6 +63,12 @@ CALLS = (
     (walker, SMALL, STONES), (stepped, SMALL, STONES, (1, 4)), (walked, SMALL, STONES, STEPS), (turn, SMALL, STONES, 1, 2, 4),
     (steps_back, SMALL, STONES, STEPS), (is_smooth, SMALL, STONES, (1, 4)), (steps_right, SMALL, STONES, STEPS, GOAL),
     (arranged, SMALL, STONES, GOAL), (exchanged, SMALL, STONES, 2, 4), (arranged, SMALL, STONES, STONES[::-1]),
+    (run_of_steps, WORLD, FLOOR, 1, 0, ((1, 2), (1, 4))), (normal, WORLD, FLOOR), (lead_home, WORLD, FLOOR),
+    (lead, WORLD, FLOOR, FLOOR[5::-1] + FLOOR[6:]), (lead, WORLD, FLOOR, LESS), (apart, WORLD, FLOOR, LESS),
+    (apart, WORLD, FLOOR, FLOOR), (apart_right, WORLD, FLOOR, LESS, ("still", 12, 0)), (odd_count, 6, 3),
+    (apart_right, WORLD, FLOOR, LESS, ("weighs", KEEPER, 2)), (surplus_count, 5, 5, 3), (side_lot, 3, 3, (-1, 0, 1)),
+    (odd_lot, 6, 3, 2), (lot_size, SMALL, 3, (-1, 0, 1)), (lot_floor, SMALL, 3, (-1, 0, 1), 30),
+    (lot_number, SMALL, 3, (0, 0, 1, 1, 2, 0)), (lot_size, SMALL, 3, (-1, 0)),
     (with_link, WEB, 0, 1), (after, WORLD, FLOOR, (0, 2, 1)), (replayed, WORLD, FLOOR, RUN + RUN), (way, WEB, 0, 99),
 )
 
