@@ -59,11 +59,16 @@ def ways_on(ways, over, more):
     return found
 
 
-def check_lot(web, coats):
-    """Refuse a web whose lots are not listed, and a number of coats that no world has."""
+def check_connected(web):
+    """Refuse a web that has not just one part."""
     many = len(parts(web))
     if many != 1:
         raise BadSize(many)
+
+
+def check_lot(web, coats):
+    """Refuse a web whose lots are not listed, and a number of coats that no world has."""
+    check_connected(web)
     check_coats(coats)
     if web.size > MOST_LISTED_CELLS:
         raise TooLarge(web.size)

@@ -142,6 +142,9 @@ def slow_sides(web):
     """The sides of each cell by trying all ways to give them, part by part."""
     found = {}
     for part in slow_parts(web):
+        if len(part) > 16:
+            found.update(spread_sides(web, part))
+            continue
         links = [(part.index(a), part.index(b)) for a, b in web.links if a in part]
         # Each bit is the side of a cell; the least cell is light.
         tried = range(0, 2 ** len(part), 2)
@@ -149,6 +152,17 @@ def slow_sides(web):
         assert len(right) <= 1
         found.update({x: right[0] >> at & 1 if right else -1 for at, x in enumerate(part)})
     return tuple(found[x] for x in range(web.size))
+
+
+def spread_sides(web, part):
+    """The sides of a part that has too many cells to try all ways."""
+    found = {part[0]: 0}
+    while len(found) < len(part):
+        for a, b in web.links + tuple((b, a) for a, b in web.links):
+            if a in found:
+                found.setdefault(b, 1 - found[a])
+    two_sided = all(found[a] != found[b] for a, b in web.links if a in found)
+    return found if two_sided else {x: -1 for x in part}
 
 
 def slow_mates(web, y, x, z):
@@ -379,3 +393,45 @@ def stout_webs():
             least = len(seed.links) + 2 * (size - 4)
             webs += [grown(seed, size, more, chance) for more in (0, min(3, 24 - least), 24 - least)]
     return [web for web in webs if len(web.links) <= 24]
+
+
+def slow_far(world, floor):
+    """How many deeds away from the floor each floor is that is the same, by following all deeds."""
+    away, reached = {floor: 0}, [floor]
+    for here in reached:
+        for deed in let_deeds(world, here):
+            there = slow_after(here, deed)
+            if there not in away:
+                away[there] = away[here] + 1
+                reached.append(there)
+    return away
+
+
+def slow_loaded(web, floor):
+    shades = slow_sides(web)
+    return tuple(x for x in range(web.size) if (shades[x], floor[x]) in ((0, 1), (1, 0)))
+
+
+def slow_fits(web, one, two):
+    first, second = slow_loaded(web, one), slow_loaded(web, two)
+    return all(len(set(first) & set(part)) == len(set(second) & set(part)) for part in slow_parts(web))
+
+
+def tree(n, seed):
+    """A web of n cells without rounds."""
+    chance = Random(seed)
+    return renamed(made(n, [(chance.randrange(x), x) for x in range(1, n)]), seed)
+
+
+def two_sided_webs():
+    """Small webs whose parts are all two-sided, of all kinds, of one part and of several."""
+    webs = [line(n) for n in range(1, 8)] + [ring(4), ring(6), grid(2, 3), grid(2, 4), two_rows(3, 3), two_rows(2, 4), two_rows(1, 5)]
+    webs += [tree(n, n) for n in (4, 5, 6, 7, 8)] + [renamed(ring(6), 3), renamed(grid(2, 3), 4), renamed(ring(8), 5), Web(3, ())]
+    webs += [side_by_side(line(2), line(1), line(3)), renamed(side_by_side(ring(4), line(3)), 6)]
+    return webs + [renamed(side_by_side(line(2), line(2), line(2)), 7), side_by_side(line(1), grid(2, 2), line(2))]
+
+
+def random_load(web, shades, many, chance):
+    """A floor in two coats with so many loaded cells, chosen at random."""
+    cells = chance.sample(range(web.size), many)
+    return tuple(1 - side if x in cells else side for x, side in enumerate(shades))

@@ -42,6 +42,15 @@ FUNCTIONS = {
     "surplusrows": ("surplus_count(light, dark, coats)",),
     "lots": ("side_lot(light, dark, surplus)", "odd_lot(n, coats, many)", "lot_size(web, coats, key)"),
     "lotorder": ("lot_floor(web, coats, key, n)", "lot_number(web, coats, floor)"),
+    "ringtallies": ("core_count(n, coats)", "ring_lot(n, coats, core)"),
+    "stills": ("still_count(web, coats)", "still_lot(web, coats, key)", "class_count(web, coats)", "class_size(world, floor)"),
+    "floornumbers": ("floor_number(world, floor)", "floor_at(world, n)"),
+    "classes": ("class_row(world)",),
+    "shortest": ("far(world, floor)", "shortest(world, one, two)"),
+    "ballcounts": ("ball(world, floor, n)", "runs_of(world, one, two, n)"),
+    "loaded": ("loaded(web, floor)", "floor_of_load(web, cells)", "fits(web, one, two)"),
+    "carriage": ("carriage(web, one, two)", "carriage_right(web, one, two, pairs)", "cost(web, pairs)", "carry(web, one, two)"),
+    "heights": ("rise(web, one, two, levels)", "heights_right(web, one, two, n, levels)", "heights(web, one, two)"),
 }
 CLASSES = {
     "errors": {"Refused": ("__init__(self, what)",)},

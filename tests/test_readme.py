@@ -18,4 +18,4 @@ class Readme(TestCase):
                     shown += 1
                 else:
                     exec(row, held)
-        self.assertEqual(shown, 20)
+        self.assertEqual(shown, 31)

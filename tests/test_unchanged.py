@@ -5,17 +5,23 @@ from copy import deepcopy
 from making import Case, full, grid, ring, side_by_side
 
 from pairfloors.answers import answer, same
+from pairfloors.ballcounts import ball, runs_of
+from pairfloors.carriage import carriage, carriage_right, carry, cost
 from pairfloors.chains import chain, widened
+from pairfloors.classes import class_row
 from pairfloors.cores import core_of, ring_row
 from pairfloors.deeds import after, deeds
 from pairfloors.errors import Refused
 from pairfloors.exchanges import arranged, exchanged
+from pairfloors.floornumbers import floor_at, floor_number
 from pairfloors.floors import checked_floor, stirs
+from pairfloors.heights import heights, heights_right, rise
 from pairfloors.joined import joined, with_corner
 from pairfloors.keeperparts import keeper_of, keeper_parts
 from pairfloors.keepers import coat_keeper, is_keeper
 from pairfloors.kinds import is_stout, kind
 from pairfloors.leads import lead, lead_home
+from pairfloors.loaded import fits, floor_of_load, loaded
 from pairfloors.lotorder import lot_floor, lot_number
 from pairfloors.lots import lot_size, odd_lot, side_lot
 from pairfloors.normals import normal
@@ -24,9 +30,12 @@ from pairfloors.parts import part_of, part_web, parts
 from pairfloors.plans import checked_plan
 from pairfloors.planwebs import cell_at, spot_of, web_of
 from pairfloors.reshaped import with_link, without_cell, without_link
+from pairfloors.ringtallies import core_count, ring_lot
 from pairfloors.runs import replayed, run_right, trail, turned_back
+from pairfloors.shortest import far, shortest
 from pairfloors.sides import odd_round, odd_round_right, sides
 from pairfloors.squares import square_mate
+from pairfloors.stills import class_count, class_size, still_count, still_lot
 from pairfloors.surplus import odd_coats, surplus
 from pairfloors.surplusrows import surplus_count
 from pairfloors.tables import checked_table
@@ -47,6 +56,7 @@ RUN = ((0, 1, 1), (1, 2, 0), (7, 8, 2))
 KEEPER = tuple((3, 2, 3) if x in (6, 7, 8, 9) else (x, x, x) for x in range(15))
 SMALL, STONES, GOAL = grid(2, 3), (-1, -1, 2, 3, 4, 5), (4, -1, 2, 3, -1, 5)
 STEPS = ((1, 2), (1, 4), (1, 0))
+TINY = World(grid(2, 2), 3)
 PLAN = (3, 3, 3, ((1, 1),), (((0, 0), (0, 2)), ((0, 0), (1, 0))))
 CALLS = (
     (parts, WEB), (part_of, WEB, 7), (part_web, WEB, 7), (part_web, WEB, 0), (sides, WEB), (odd_round, WEB, 12),
@@ -69,6 +79,13 @@ CALLS = (
     (apart_right, WORLD, FLOOR, LESS, ("weighs", KEEPER, 2)), (surplus_count, 5, 5, 3), (side_lot, 3, 3, (-1, 0, 1)),
     (odd_lot, 6, 3, 2), (lot_size, SMALL, 3, (-1, 0, 1)), (lot_floor, SMALL, 3, (-1, 0, 1), 30),
     (lot_number, SMALL, 3, (0, 0, 1, 1, 2, 0)), (lot_size, SMALL, 3, (-1, 0)),
+    (core_count, 8, 3), (ring_lot, 5, 3, (0, 1, 2)), (still_count, SMALL, 3), (still_lot, SMALL, 3, (3, -3, 0)), (class_count, SMALL, 3),
+    (class_size, TINY, (2, 1, 0, 0)), (floor_number, WORLD, FLOOR), (floor_at, WORLD, 10 ** 6), (class_row, TINY), (far, TINY, (2, 1, 0, 0)),
+    (shortest, TINY, (2, 1, 0, 0), (0, 0, 1, 2)), (ball, TINY, (2, 1, 0, 0), 2), (runs_of, TINY, (2, 1, 0, 0), (0, 0, 1, 2), 5),
+    (loaded, SMALL, (0,) * 6), (floor_of_load, SMALL, (1, 2)), (fits, SMALL, (0,) * 6, (1,) * 6), (carriage, SMALL, (0,) * 6, (1,) * 6),
+    (carriage_right, SMALL, (0,) * 6, (1,) * 6, ((1, 0), (3, 4), (5, 2))), (cost, SMALL, ((1, 0), (3, 4))), (carry, SMALL, (0,) * 6, (1,) * 6),
+    (rise, SMALL, (0,) * 6, (1,) * 6, (1, 0) * 3), (heights, SMALL, (0,) * 6, (1,) * 6), (class_row, WORLD), (carry, WEB, (), ()),
+    (heights_right, SMALL, (0,) * 6, (1,) * 6, 3, (1, 0) * 3),
     (with_link, WEB, 0, 1), (after, WORLD, FLOOR, (0, 2, 1)), (replayed, WORLD, FLOOR, RUN + RUN), (way, WEB, 0, 99),
 )
 
