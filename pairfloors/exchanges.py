@@ -2,8 +2,7 @@
 
 from pairfloors.errors import BadPair, BadSize, NotStout, NoWay, TooMany
 from pairfloors.forms import check_cell
-from pairfloors.kinds import is_stout
-from pairfloors.parts import parts
+from pairfloors.kinds import is_all_stout
 from pairfloors.sides import sides
 from pairfloors.turns import turn
 from pairfloors.walkers import bare_cells, steps_back, walked, walker
@@ -51,7 +50,7 @@ def check_searched(web):
         raise BadSize(web.size)
     if len(web.links) > MOST_SEARCHED_LINKS:
         raise TooMany(len(web.links))
-    if len(parts(web)) > 1 or not is_stout(web, 0):
+    if not is_all_stout(web):
         raise NotStout(0)
 
 

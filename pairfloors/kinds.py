@@ -12,6 +12,11 @@ def is_stout(web, x):
     return all([len(web.near(y)) >= 2 and hang_together(web, y) for y in part_of(web, x)])
 
 
+def is_all_stout(web):
+    """Whether the web is connected and stout."""
+    return len(part_of(web, 0)) == web.size and is_stout(web, 0)
+
+
 def kind(web, x):
     """The kind of the part of x: "dot", "stout", "ring" or "narrow", the first that fits."""
     part = part_of(web, x)

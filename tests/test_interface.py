@@ -51,11 +51,24 @@ FUNCTIONS = {
     "loaded": ("loaded(web, floor)", "floor_of_load(web, cells)", "fits(web, one, two)"),
     "carriage": ("carriage(web, one, two)", "carriage_right(web, one, two, pairs)", "cost(web, pairs)", "carry(web, one, two)"),
     "heights": ("rise(web, one, two, levels)", "heights_right(web, one, two, n, levels)", "heights(web, one, two)"),
+    "hops": ("hop_run(web, one, two)",),
+    "merging": ("merged(world, floor, row)", "merge_bound(world, one, two)", "merge_row(world, one, two)"),
+    "sums": ("split(world, floor)", "sum_answer(one, two, doors, first, second)"),
+    "sayshouse": ("told(house, row)",),
+    "webtext": ("web_text(web)", "web_from(text)"),
+    "plantext": ("plan_text(plan)", "plan_from(text)"),
+    "floortext": ("floor_text(plan, floor)", "floor_of(plan, text)"),
+    "runtext": ("run_text(run)", "run_from(text)"),
 }
 CLASSES = {
     "errors": {"Refused": ("__init__(self, what)",)},
     "webs": {"Web": ("__init__(self, size, links)", "near(self, x)", "linked(self, x, y)")},
     "worlds": {"World": ("__init__(self, web, coats, *, table=None)",)},
+    "house": {"House": (
+        "__init__(self, web, coats, *, floor=None)", "floor(self)", "web(self)", "goal(self)", "record(self)", "trials(self)", "answer(self)",
+        "can(self)", "paint(self, x, y, coat)", "lay(self, run)", "link(self, a, b)", "cut(self, a, b)", "aim(self, floor)", "undo(self)",
+        "redo(self)", "begin(self)", "keep(self)", "drop(self)",
+    )},
 }
 
 

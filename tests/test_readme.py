@@ -12,10 +12,10 @@ class Readme(TestCase):
         held, shown = {}, 0
         for block in re.findall(r"```python\n(.*?)```", README.read_text(), re.S):
             for row in block.splitlines():
-                asked, _, told = row.partition("#")
+                asked, _, told = row.partition(" # ")
                 if told:
                     self.assertEqual(eval(asked, held), eval(told), row)
                     shown += 1
                 else:
                     exec(row, held)
-        self.assertEqual(shown, 31)
+        self.assertEqual(shown, 51)

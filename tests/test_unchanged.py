@@ -15,7 +15,10 @@ from pairfloors.errors import Refused
 from pairfloors.exchanges import arranged, exchanged
 from pairfloors.floornumbers import floor_at, floor_number
 from pairfloors.floors import checked_floor, stirs
+from pairfloors.floortext import floor_of, floor_text
 from pairfloors.heights import heights, heights_right, rise
+from pairfloors.hops import hop_run
+from pairfloors.house import House
 from pairfloors.joined import joined, with_corner
 from pairfloors.keeperparts import keeper_of, keeper_parts
 from pairfloors.keepers import coat_keeper, is_keeper
@@ -24,18 +27,23 @@ from pairfloors.leads import lead, lead_home
 from pairfloors.loaded import fits, floor_of_load, loaded
 from pairfloors.lotorder import lot_floor, lot_number
 from pairfloors.lots import lot_size, odd_lot, side_lot
+from pairfloors.merging import merge_bound, merge_row, merged
 from pairfloors.normals import normal
 from pairfloors.papers import apart, apart_right
 from pairfloors.parts import part_of, part_web, parts
 from pairfloors.plans import checked_plan
+from pairfloors.plantext import plan_from, plan_text
 from pairfloors.planwebs import cell_at, spot_of, web_of
 from pairfloors.reshaped import with_link, without_cell, without_link
 from pairfloors.ringtallies import core_count, ring_lot
 from pairfloors.runs import replayed, run_right, trail, turned_back
+from pairfloors.runtext import run_from, run_text
+from pairfloors.sayshouse import told
 from pairfloors.shortest import far, shortest
 from pairfloors.sides import odd_round, odd_round_right, sides
 from pairfloors.squares import square_mate
 from pairfloors.stills import class_count, class_size, still_count, still_lot
+from pairfloors.sums import split, sum_answer
 from pairfloors.surplus import odd_coats, surplus
 from pairfloors.surplusrows import surplus_count
 from pairfloors.tables import checked_table
@@ -45,6 +53,7 @@ from pairfloors.walkers import is_smooth, stepped, steps_back, steps_right, walk
 from pairfloors.walkdeeds import run_of_steps
 from pairfloors.ways import steps_apart, way
 from pairfloors.webs import Web
+from pairfloors.webtext import web_from, web_text
 from pairfloors.weighings import weigh
 from pairfloors.worlds import World
 
@@ -85,7 +94,11 @@ CALLS = (
     (loaded, SMALL, (0,) * 6), (floor_of_load, SMALL, (1, 2)), (fits, SMALL, (0,) * 6, (1,) * 6), (carriage, SMALL, (0,) * 6, (1,) * 6),
     (carriage_right, SMALL, (0,) * 6, (1,) * 6, ((1, 0), (3, 4), (5, 2))), (cost, SMALL, ((1, 0), (3, 4))), (carry, SMALL, (0,) * 6, (1,) * 6),
     (rise, SMALL, (0,) * 6, (1,) * 6, (1, 0) * 3), (heights, SMALL, (0,) * 6, (1,) * 6), (class_row, WORLD), (carry, WEB, (), ()),
-    (heights_right, SMALL, (0,) * 6, (1,) * 6, 3, (1, 0) * 3),
+    (heights_right, SMALL, (0,) * 6, (1,) * 6, 3, (1, 0) * 3), (hop_run, SMALL, (0,) * 6, (1,) * 6), (merged, WORLD, FLOOR, (0, 1, 1)),
+    (merge_bound, TINY, (2, 1, 0, 0), (0, 0, 1, 2)), (merge_row, TINY, (2, 1, 0, 0), (0, 0, 1, 2)), (split, WORLD, FLOOR),
+    (sum_answer, TINY, TINY, ((0, 0), (1, 1)), (2, 1, 0, 0), (0, 0, 1, 2)), (web_text, WEB), (web_from, "web 3\n0 1\n0 2"), (plan_text, PLAN),
+    (plan_from, "plan 2 2 0\nhole 0 1\nwall 0 0 1 0"), (floor_text, PLAN, (0, 1, 2, 3, 4, 5, 0, 1)), (floor_of, PLAN, "abc\nd#e\nfab"),
+    (run_text, RUN), (run_from, "0-1-1,1-2-0"), (merge_bound, WORLD, FLOOR, FLOOR), (floor_of, PLAN, "abc"),
     (with_link, WEB, 0, 1), (after, WORLD, FLOOR, (0, 2, 1)), (replayed, WORLD, FLOOR, RUN + RUN), (way, WEB, 0, 99),
 )
 
@@ -126,6 +139,19 @@ class Unchanged(Case):
         if isinstance(thing, tuple) and "web" not in thing:
             for inner in thing:
                 self.no_lists(inner)
+
+    def test_what_a_house_is_handed(self):
+        web, floor, run, goal = grid(2, 2), (0, 0, 1, 1), ((0, 1, 1), (0, 2, 0)), (1, 1, 0, 0)
+        before = deepcopy([shown(web), floor, run, goal])
+        house = House(web, 2, floor=floor)
+        for call, *args in ((house.lay, run), (house.aim, goal), (house.link, 3, 0), (house.cut, 0, 1), (house.undo,), (house.begin,), (house.redo,),
+                            (house.drop,)):
+            self.assertIsNone(call(*args))
+        told(house, "cut 0 1")
+        self.no_lists((house.floor(), house.goal(), house.record(), house.trials()))
+        self.assertEqual([shown(web), floor, run, goal], before)
+        self.assertIsNot(house.web(), web)
+        self.assertIs(house.record()[0][1], run)
 
     def test_webs_stay_as_they_are_when_others_are_made_of_them(self):
         near = [WEB.near(x) for x in range(WEB.size)]
