@@ -30,10 +30,8 @@ def merge_row(world, one, two):
 
 def carries(world, one, two):
     """For each merging row the least cost of a carriage between the merged floors."""
-    checked_floor(world, one)
-    checked_floor(world, two)
-    rows = merging_rows(world.coats)
-    return [carry(world.web, merged(world, one, row), merged(world, two, row)) for row in rows]
+    floors = [(merged(world, one, row), merged(world, two, row)) for row in merging_rows(world.coats)]
+    return [carry(world.web, first, second) for first, second in floors]
 
 
 def merging_rows(coats):

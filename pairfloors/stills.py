@@ -1,12 +1,12 @@
 """Still floors, and the classes of floors that are the same."""
 
 from pairfloors.answers import core_along
-from pairfloors.errors import Narrow, TooLarge
+from pairfloors.errors import Narrow
 from pairfloors.floornumbers import check_small
-from pairfloors.floors import checked_floor, stirs
+from pairfloors.floors import stirs
 from pairfloors.kinds import kind
 from pairfloors.lotorder import key_of, row_behind
-from pairfloors.lots import MOST_LISTED_CELLS, check_connected, key_row, lot_size
+from pairfloors.lots import check_connected, key_row, lot_size
 from pairfloors.parts import part_web, parts
 from pairfloors.ringtallies import core_count, ring_lot
 from pairfloors.sides import sides
@@ -51,7 +51,6 @@ def class_size(world, floor):
     """How many floors are the same as the floor."""
     web = world.web
     check_connected(web)
-    checked_floor(world, floor)
     if not stirs(world, floor, 0):
         return 1
     name = kind(web, 0)
@@ -59,8 +58,6 @@ def class_size(world, floor):
         raise Narrow(0)
     if name == "ring":
         return ring_lot(web.size, world.coats, core_along(web, floor, 0))
-    if web.size > MOST_LISTED_CELLS:
-        raise TooLarge(web.size)
     return stirring_lot(world, key_of(world, floor))
 
 

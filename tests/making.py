@@ -142,7 +142,7 @@ def slow_sides(web):
     """The sides of each cell by trying all ways to give them, part by part."""
     found = {}
     for part in slow_parts(web):
-        if len(part) > 16:
+        if len(part) > 10:
             found.update(spread_sides(web, part))
             continue
         links = [(part.index(a), part.index(b)) for a, b in web.links if a in part]

@@ -37,6 +37,16 @@ def slow_carry(web, one, two):
     return total
 
 
+def is_least(web, pairs):
+    """Whether no loads of the carriage could go round, each to the end of the next one, and cost less together."""
+    apart = [steps_apart(web, s) for s, _ in pairs]
+    more = [[row[t] - row[own] if row[t] >= 0 else 10 ** 6 for _, t in pairs] for row, (_, own) in zip(apart, pairs)]
+    for by in range(len(pairs)):
+        for row in more:
+            row[:] = [min(straight, row[by] + over) for straight, over in zip(row, more[by])]
+    return all(more[at][at] >= 0 for at in range(len(pairs)))
+
+
 def is_carriage(web, one, two, pairs):
     first, second = slow_loaded(web, one), slow_loaded(web, two)
     together = all(any(s in part and t in part for part in slow_parts(web)) for s, t in pairs)
@@ -70,6 +80,19 @@ class Carriage(Case):
             for one in {pair[0] for pair in some_pairs(web, 4, web.size + 1)}:
                 for two, steps in slow_far(World(web, 2), one).items():
                     self.assertEqual(carry(web, one, two), steps)
+
+    def test_no_loads_go_round_for_less(self):
+        chance = Random(173)
+        for seed in range(1200):
+            n = chance.randint(8, 40)
+            web = chance.choice((tree(n, seed), renamed(line(n), seed), ring(n // 2 * 2), grid(chance.randint(2, 5), chance.randint(3, 8))))
+            shades, many = sides(web), chance.randint(1, min(web.size, 16))
+            one, two = random_load(web, shades, many, chance), random_load(web, shades, many, chance)
+            pairs = carriage(web, one, two)
+            self.is_true(carriage_right(web, one, two, pairs))
+            self.assertTrue(is_least(web, pairs))
+            self.assertEqual(carry(web, one, two), cost(web, pairs))
+        self.assertFalse(is_least(WEB, ((1, 4), (3, 2), (5, 0))))
 
     def test_nothing_loaded_and_equal_floors(self):
         for web in (line(1), line(5), grid(5, 8), Web(40, ()), side_by_side(line(2), line(3))):

@@ -73,7 +73,7 @@ class Told(Case):
                 "paint 0 1", "paint 0 1 1 1", "paint  0 1 1", "paint 0  1 1", "paint 0 1  1", "paint 0 1 1 ", " paint 0 1 1", "paint 0\t1 1",
                 "paint 0 1 b", "paint a b 1", "paint 0,1,1", "paint 0-1-1", "link 0", "link 0 3 1", "link 0  3", "link 0 3 ", "link a d", "cut 0",
                 "cut 0 1 2", "cut 0-1", "cut 0 -1", "kind 0 1", "kind a", "kind -1", "kind  0", "kind 0 ", "kind +1", "aim 0000", "aim ABAB", "aim aaag",
-                "aim aa aa", "aim  aaaa", "aim aaaa ", "aim aaaa\n", "aim aaa#", "aim 0", "lay 0-1-1 0-1-0", "lay  .", "lay . ", "lay . .", "goal", "answer",
+                "aim aa aa", "aim  aaaa", "aim ", "aim aaaa ", "aim aaaa\n", "aim aaa#", "aim 0", "lay 0-1-1 0-1-0", "lay  .", "lay . ", "lay . .", "goal", "answer",
                 "record", "web", "paints 0 1 1", "pain 0 1 1", "told", "house", "begin\nundo", "undo\nredo", "floor\n", "can\n", "ok", "0", ".", "none"]
         rows += ["lay " + word for word in WRONG]
         for number in ("00", "01", "000000", "0000001", "1000000", "1234567", "9999999", "-0", "+0", "0x1", "1.", "1_0", "\u0660", "\u00b9", "x", "1\n", "12345678901234"):
