@@ -4,6 +4,7 @@ from math import gcd
 
 from pairfloors.cores import LONGEST_ROW, SHORTEST_ROW, core_of
 from pairfloors.forms import check_count, is_below
+from pairfloors.powers import power
 from pairfloors.worlds import check_coats
 
 
@@ -41,7 +42,7 @@ def orbits(m, coats):
 
 def unlike_rings(g, coats):
     """How many rows of g coats, read as a ring, have no two like letters next to each other."""
-    around = (coats - 1) ** g
+    around = power(coats - 1, g)
     return around + coats - 1 if g & 1 == 0 else around - coats + 1
 
 
@@ -79,5 +80,5 @@ def ends_around(many, k, coats):
     if k == 0:
         return 1
     if many >= 2:
-        return (coats - 2) * (coats - 1) ** (k - 1)
-    return (coats - 1) ** k if many == 1 else 0
+        return (coats - 2) * power(coats - 1, k - 1)
+    return power(coats - 1, k) if many == 1 else 0

@@ -3,6 +3,7 @@
 import ast
 import builtins
 import re
+import warnings
 from pathlib import Path
 from unittest import TestCase
 
@@ -68,6 +69,11 @@ def importable(module):
 def own_methods():
     classes = [node for path in FILES for node in tree_of(path).body if isinstance(node, ast.ClassDef)]
     return {node.name for held in classes for node in held.body if isinstance(node, ast.FunctionDef)}
+
+
+def is_written_exponent(node):
+    """Whether the right side of a power is a number from 0 to 64 that is written out."""
+    return isinstance(node, ast.Constant) and type(node.value) is int and 0 <= node.value <= 64
 
 
 class Form(TestCase):
@@ -140,6 +146,33 @@ class Form(TestCase):
                        if isinstance(node, ast.Call) and isinstance(node.func, ast.Attribute)} - set(METHODS)
             self.assertFalse(strange - own_methods(), path)
             self.assertIsNone(re.search("_wall", path.read_text()), path)
+
+    def test_powers_have_written_exponents(self):
+        for path in FILES:
+            for node in ast.walk(tree_of(path)):
+                if isinstance(node, (ast.BinOp, ast.AugAssign)) and isinstance(node.op, ast.Pow):
+                    self.assertTrue(is_written_exponent(node.right if isinstance(node, ast.BinOp) else node.value), (path, node.lineno))
+
+    def test_written_exponents(self):
+        for word, right in (("0", True), ("64", True), ("65", False), ("-1", False), ("n", False), ("k - 1", False), ("True", False)):
+            self.assertIs(is_written_exponent(ast.parse(word, mode="eval").body), right, word)
+
+    def test_numbers_and_strings(self):
+        for path in FILES:
+            text = path.read_text()
+            self.assertLessEqual(set(re.findall(r"\\(.)", text, re.S)), set("nt\\'\""), path)
+            self.assertIsNone(re.search("[0-9_]{901}", text), path)
+            for node in ast.walk(tree_of(path)):
+                if isinstance(node, ast.Constant) and isinstance(node.value, str):
+                    self.assertNotIn("%", node.value, path)
+                    self.assertFalse(node.value.endswith(("._", ".__")), path)
+                    self.assertIsNone(re.search("^__.*__$", node.value, re.S), path)
+
+    def test_python_warns_of_nothing(self):
+        for path in FILES:
+            with warnings.catch_warnings():
+                warnings.simplefilter("error")
+                compile(path.read_text(), str(path), "exec")
 
     def test_what_is_not_used(self):
         barred = (ast.AsyncFunctionDef, ast.Await, ast.Global, ast.Div)
